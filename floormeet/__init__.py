@@ -1,0 +1,1 @@
+"""Floormeet: houses in which two who meet part, one staying, one going up."""
