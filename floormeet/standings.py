@@ -34,9 +34,16 @@ def check_standing(house, standing):
 def meetings(house, standing):
     """Tell all meetings that can be next, rising."""
     check_standing(house, standing)
-    m = len(standing[0])
-    every = [(floor, a, b) for floor in range(len(house)) for a in range(m) for b in range(a, m)]
-    return [meeting for meeting in every if can_meet(standing, meeting)]
+    told = []
+    for floor, counts in enumerate(standing[:-1]):
+        told.extend([(floor, a, b) for a, b in pairs(counts)])
+    return told
+
+
+def pairs(counts):
+    """Tell the numbers of all twos, rising, that can meet among so many people of each number."""
+    here = [number for number, many in enumerate(counts) if many]
+    return [(a, b) for a in here for b in here if a < b or (a == b and counts[a] > 1)]
 
 
 def can_meet(standing, thing):
@@ -66,39 +73,48 @@ def met(house, standing, meeting):
     """Tell the standing behind a meeting that is known to be one that can be next."""
     floor, a, b = meeting
     stay, up = house[floor]
-    rows = [list(counts) for counts in standing[:-1]]
-    out = standing[-1]
-    rows[floor][a] -= 1
-    rows[floor][b] -= 1
-    rows[floor][stay[a][b]] += 1
-    if floor + 1 < len(rows):
-        rows[floor + 1][up[a][b]] += 1
+    told = list(standing)
+    here = list(standing[floor])
+    here[a] -= 1
+    here[b] -= 1
+    here[stay[a][b]] += 1
+    told[floor] = tuple(here)
+    if floor + 1 < len(house):
+        above = list(standing[floor + 1])
+        above[up[a][b]] += 1
+        told[floor + 1] = tuple(above)
     else:
-        out += 1
-    return tuple([tuple(row) for row in rows]) + (out,)
+        told[floor + 1] += 1
+    return tuple(told)
 
 
 def is_rest(house, standing):
     """Tell whether nobody can meet: at most one stands on each floor."""
     check_standing(house, standing)
+    return is_still(standing)
+
+
+def is_still(standing):
+    """Tell of what is known to be a standing whether nobody can meet."""
     return max([sum(counts) for counts in standing[:-1]]) <= 1
 
 
 def how_long(house, standing):
     """Tell how many meetings there will be till rest, as many in every order."""
     check_standing(house, standing)
-    return sum([going_up(many) for many in coming(standing)])
+    return meetings_left(standing)
+
+
+def meetings_left(standing):
+    """Tell of what is known to be a standing how many meetings there will be till rest."""
+    # At each meeting one goes up, and of all who ever stand on a floor one alone doesn't.
+    return sum([max(0, many - 1) for many in coming(standing)])
 
 
 def who_rests(house, standing):
     """Tell for each floor whether somebody stands there at rest."""
     check_standing(house, standing)
     return tuple([many > 0 for many in coming(standing)])
-
-
-def going_up(many):
-    """Tell how many of so many who ever stand on a floor go up: all but the one who rests."""
-    return max(0, many - 1)
 
 
 def coming(standing):
@@ -108,7 +124,7 @@ def coming(standing):
     for counts in standing[:-1]:
         many = sum(counts) + rising
         told.append(many)
-        rising = going_up(many)
+        rising = many - 1 if many else 0
     return told
 
 
@@ -123,8 +139,9 @@ def standing_of(house, company):
 
 def together(house, one, other):
     """Tell the standing of the people of both standings, its counts their sums."""
-    check_standing(house, one)
-    check_standing(house, other)
+    m, floors = size(house)
+    if not has_form(one, m, floors, None) or not has_form(other, m, floors, None):
+        raise NoStanding("two standings of the house were due")
     rows = [added(counts, more) for counts, more in zip(one[:-1], other[:-1])]
     return tuple(rows) + (one[-1] + other[-1],)
 

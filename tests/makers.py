@@ -1,5 +1,6 @@
 """Houses, standings and things of other kinds for the tests, and meetings gone through one by one."""
 
+import itertools
 import random
 
 HUGE = 10 ** 18
@@ -75,6 +76,120 @@ def all_ends(house, standing):
                 seen.add(step)
                 waiting.append(step)
     return ends
+
+
+def meeting_later(house, standing):
+    """For each meeting that can be next, rising: the meeting and the standing behind it."""
+    told = []
+    for floor, (stay, up) in enumerate(house):
+        counts = standing[floor]
+        here = [number for number, many in enumerate(counts) if many]
+        for a, b in itertools.combinations_with_replacement(here, 2):
+            if a == b and counts[a] < 2:
+                continue
+            row = list(counts)
+            row[a] -= 1
+            row[b] -= 1
+            row[stay[a][b]] += 1
+            if floor + 1 < len(house):
+                next_row = list(standing[floor + 1])
+                next_row[up[a][b]] += 1
+                changed = (tuple(row), tuple(next_row))
+            else:
+                changed = (tuple(row), standing[-1] + 1)
+            told.append(((floor, a, b), standing[:floor] + changed + standing[floor + 2:]))
+    return told
+
+
+def counted_ways(house, standing):
+    """How many runs lead to each end, by going through all standings, layer by layer."""
+    layer = {standing: 1}
+    while True:
+        told = {}
+        for here, runs in layer.items():
+            for _, behind in meeting_later(house, here):
+                told[behind] = told.get(behind, 0) + runs
+        if not told:
+            return layer
+        layer = told
+
+
+def any_run(house, standing, chance):
+    """A run to rest in an order left to chance, and its end."""
+    row = []
+    while nexts := meeting_later(house, standing):
+        meeting, standing = chance.choice(nexts)
+        row.append(meeting)
+    return row, standing
+
+
+def nobody(house):
+    return ((0,) * len(house[0][0]),) * len(house) + (0,)
+
+
+def on_floor(house, floor, numbers):
+    """The standing with people of these numbers on the floor, nobody else."""
+    m = len(house[0][0])
+    row = tuple(list(numbers).count(number) for number in range(m))
+    return nobody(house)[:floor] + (row,) + nobody(house)[floor + 1:]
+
+
+def table_of(m, number):
+    return tuple(tuple(number(a, b) for b in range(m)) for a in range(m))
+
+
+def sorting_floor(m):
+    return table_of(m, max), table_of(m, min)
+
+
+def counting_floor(m):
+    return table_of(m, lambda a, b: (a + b) % m), table_of(m, lambda a, b: (a + b) // m)
+
+
+def plain_floor(m, stay, up):
+    """A floor on which one number stays and one goes up, whoever meets."""
+    return table_of(m, lambda a, b: stay), table_of(m, lambda a, b: up)
+
+
+def called_otherwise(house, seed):
+    """The house with the numbers of each floor called otherwise, in an order left to chance."""
+    chance = random.Random(seed)
+    m = len(house[0][0])
+    names = [chance.sample(range(m), m) for _ in house]
+    told = []
+    for floor, tables in enumerate(house):
+        here, above = names[floor], names[min(floor + 1, len(house) - 1)]
+        new = []
+        for table, calling in zip(tables, (here, above)):
+            rows = [[0] * m for _ in range(m)]
+            for a in range(m):
+                for b in range(m):
+                    rows[here[a]][here[b]] = calling[table[a][b]]
+            new.append(tuple(tuple(row) for row in rows))
+        told.append(tuple(new))
+    return tuple(told)
+
+
+def sure_houses():
+    """Houses of all sizes all of whose floors stand by themselves."""
+    told = []
+    for m, floors in SIZES:
+        told.append((sorting_floor(m),) * floors)
+        told.append((counting_floor(m),) * floors)
+        told.append(tuple((sorting_floor(m), counting_floor(m), plain_floor(m, m - 1, 0))[k % 3] for k in range(floors)))
+    return told + [called_otherwise(house, seed) for seed, house in enumerate(told)]
+
+
+def leaning_houses():
+    """Fair houses of all sizes from two numbers and two floors on, with floors that only lean."""
+    told = []
+    for m, floors in SIZES:
+        if m > 1 and floors > 1:
+            for seed in range(3):
+                ups = made_table(m, random.Random(seed))
+                lowest = (table_of(m, (max, min, lambda a, b: (a + b) % m)[seed]), ups)
+                told.append((lowest,) + (plain_floor(m, 0, m - 1),) * (floors - 1))
+    return told + [called_otherwise(house, seed) for seed, house in enumerate(told)]
 
 
 class Plain:

@@ -23,6 +23,23 @@ FUNCTIONS = {
         "standing_of": ["house", "company"],
         "together": ["house", "one", "other"],
     },
+    "runs": {
+        "run": ["house", "standing", "row"],
+        "first_run": ["house", "standing"],
+        "ends": ["house", "standing"],
+        "ways": ["house", "standing"],
+    },
+    "fair": {
+        "is_fair": ["house"],
+        "paper": ["house"],
+        "is_paper": ["house", "thing"],
+        "floor_kinds": ["house"],
+        "certain_floors": ["house"],
+    },
+    "ends": {
+        "end_of": ["house", "standing"],
+        "comings": ["house", "standing"],
+    },
 }
 CLASSES = {
     "errors": (
