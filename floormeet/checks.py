@@ -20,9 +20,12 @@ def is_tuple_of(thing, many):
 
 def are_up_to(thing, many, most):
     """Tell whether the thing is a tuple of so many whole numbers, each as is_up_to asks."""
-    if not is_tuple_of(thing, many):
+    if not isinstance(thing, tuple) or len(thing) != many:
         return False
     for number in thing:
-        if not is_up_to(number, most):
+        # Nearly all that is looked at is a plain int, and its kind by itself tells so soonest.
+        if type(number) is not int and not is_whole(number):
             return False
-    return True
+        if number < 0:
+            return False
+    return most is None or max(thing) <= most

@@ -2,7 +2,9 @@
 
 import copy
 import random
+import sys
 import unittest
+from fractions import Fraction
 
 from floormeet.errors import NoHouse
 from floormeet.houses import is_house, size
@@ -48,6 +50,19 @@ def tables_of_wrong_form(table):
     for a in range(m):
         for new in (table[a] + (0,), table[a][:-1], list(table[a]), None, 0, "0" * m, b"\x00" * m, ()):
             yield put(table, a, new)
+
+
+class Alike:
+    """A thing that is alike to one other, or to any."""
+
+    def __init__(self, other=None):
+        self.other = other
+
+    def __eq__(self, thing):
+        return self.other is None or self.other == thing
+
+    def __ne__(self, thing):
+        return not self == thing
 
 
 class Houses(unittest.TestCase):
@@ -166,6 +181,59 @@ class Houses(unittest.TestCase):
     def test_other_kinds(self):
         for thing in other_kinds():
             self.refused(thing)
+
+    def test_what_is_like_a_house_seen_ahead(self):
+        for m, floors in SIZES:
+            house = made_house(m, floors)
+            for floor, which in table_places(house):
+                for a in range(m):
+                    for b in range(m):
+                        number = house[floor][which][a][b]
+                        for new in (bool(number), Fraction(number), Alike(), Alike(number)):
+                            thing = with_number(house, floor, which, a, b, new)
+                            self.assertTrue(is_house(house))
+                            self.refused(thing)
+                            self.assertTrue(is_house(house))
+                            self.assertEqual(size(house), (m, floors))
+            for new in (Alike(), listed(house), list(house)):
+                self.assertTrue(is_house(house))
+                self.refused(new)
+            for floor, which in table_places(house):
+                for new in (Alike(), list(house[floor][which])):
+                    self.assertTrue(is_house(house))
+                    self.refused(with_table(house, floor, which, new))
+                    self.refused(put(house, floor, new))
+
+    def test_houses_one_behind_the_other(self):
+        houses = [made_house(m, floors, seed) for m, floors in SIZES for seed in range(2)]
+        for one in houses:
+            for other in (houses[0], houses[-1], one, copy.deepcopy(one)):
+                self.assertIs(is_house(other), True)
+                self.assertEqual(size(one), (len(one[0][0]), len(one)))
+                self.refused(one + one + one + one + one)
+
+    def test_great_things_are_soon_known_to_be_none(self):
+        numbers = (0,) * 2000
+        table = (numbers,) * 2000
+        floor = (table,) * 2000
+        for thing in (numbers, table, floor, (floor,) * 2000, ((table, table),) * 4, ((numbers, numbers),) * 4):
+            self.refused(thing)
+        thing = floor
+        for _ in range(30):
+            thing = (thing,) * 2000
+            self.refused(thing)
+
+    def test_a_look_asks_nothing_of_each_number(self):
+        # However many numbers a house has, there are as few calls: that is what a look's time hangs on.
+        for thing in (made_house(6, 4), (made_house(6, 1)[0],) * 4, made_house(1, 1), made_house(6, 4)):
+            calls = []
+            sys.setprofile(lambda frame, what, _: calls.append(frame) if what == "call" else None)
+            try:
+                told = is_house(thing)
+            finally:
+                sys.setprofile(None)
+            self.assertIs(told, True)
+            self.assertLess(len(calls), 10)
 
     def test_what_is_handed_in_stays(self):
         house = made_house(3, 2)

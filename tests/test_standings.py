@@ -3,6 +3,7 @@
 import copy
 import itertools
 import random
+import sys
 import unittest
 
 from floormeet.errors import NoCompany, NoHouse, NoMeeting, NoStanding
@@ -10,14 +11,10 @@ from floormeet.standings import (
     behind, how_long, is_rest, is_standing, meetings, standing_of, together, who_rests,
 )
 from tests.makers import (
-    HUGE, SIZES, SORTER, all_ends, every_meeting, made_house, made_standing, other_kinds, person_by_person,
+    HUGE, SIZES, SORTER, all_ends, every_meeting, made_house, made_standing, nobody, other_kinds, person_by_person,
 )
 
 NO_HOUSES = other_kinds() + [list(SORTER), SORTER[0], (SORTER,), SORTER + SORTER + SORTER]
-
-
-def nobody(house):
-    return ((0,) * len(house[0][0]),) * len(house) + (0,)
 
 
 def put(thing, at, new):
@@ -415,6 +412,28 @@ class Companies(unittest.TestCase):
             self.assertIs(is_standing(house, one), True)
             self.assertIs(is_standing(house, told), False)
             self.assertEqual(together(house, told, one), ((3 * HUGE,) * m,) * floors + (3 * HUGE,))
+
+
+class Soon(unittest.TestCase):
+    def test_no_call_asks_anything_of_each_number_of_the_house(self):
+        # The time of a call hangs on how much it calls; the greatest house has 288 numbers.
+        house = made_house(6, 4)
+        standing = made_standing(house, 5)
+        meeting = every_meeting(standing)[0]
+        asked = [
+            lambda: is_standing(house, standing), lambda: meetings(house, standing),
+            lambda: behind(house, standing, meeting), lambda: is_rest(house, standing),
+            lambda: how_long(house, standing), lambda: who_rests(house, standing),
+            lambda: standing_of(house, standing[0]), lambda: together(house, standing, standing),
+        ]
+        for call in asked:
+            calls = []
+            sys.setprofile(lambda frame, what, _: calls.append(frame) if what == "call" else None)
+            try:
+                call()
+            finally:
+                sys.setprofile(None)
+            self.assertLess(len(calls), 40)
 
 
 class NotChanged(unittest.TestCase):
