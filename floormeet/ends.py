@@ -9,6 +9,11 @@ def end_of(house, standing):
     """Tell the one end of any standing of a fair house."""
     check_fair(house)
     check_standing(house, standing)
+    return brought_to_rest(house, standing)
+
+
+def brought_to_rest(house, standing):
+    """Tell the end of what is known to be a standing of a fair house."""
     rows = []
     rising = [0] * len(standing[0])
     for tables, counts in zip(house, standing[:-1]):

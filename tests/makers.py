@@ -1,7 +1,10 @@
 """Houses, standings and things of other kinds for the tests, and meetings gone through one by one."""
 
+import functools
 import itertools
 import random
+
+from floormeet.fair import is_fair
 
 HUGE = 10 ** 18
 
@@ -190,6 +193,103 @@ def leaning_houses():
                 lowest = (table_of(m, (max, min, lambda a, b: (a + b) % m)[seed]), ups)
                 told.append((lowest,) + (plain_floor(m, 0, m - 1),) * (floors - 1))
     return told + [called_otherwise(house, seed) for seed, house in enumerate(told)]
+
+
+def with_entry(house, floor, which, a, b, number):
+    """The house with another number in one table at a, b and at b, a."""
+    tables = [[[list(row) for row in table] for table in tables] for tables in house]
+    tables[floor][which][a][b] = tables[floor][which][b][a] = number
+    return tuple(tuple(tuple(tuple(row) for row in table) for table in floor) for floor in tables)
+
+
+def walked_houses():
+    """Fair houses of all sizes, a few numbers of each changed by chance so that it stays fair."""
+    told = []
+    for at, house in enumerate(sure_houses() + leaning_houses()):
+        chance = random.Random(at)
+        m, floors = len(house[0][0]), len(house)
+        for _ in range(40):
+            other = with_entry(house, chance.randrange(floors), chance.randrange(2), chance.randrange(m),
+                               chance.randrange(m), chance.randrange(m))
+            if is_fair(other):
+                house = other
+        told.append(house)
+    return told
+
+
+@functools.cache
+def fair_houses(most_numbers=6, most_floors=4):
+    """Fair houses of all sizes up to these, many of them of two or three numbers as they are drawn."""
+    drawn = [made_house(m, floors, seed) for m in (2, 3) for floors in (1, 2, 3, 4) for seed in range(60)]
+    every = sure_houses() + leaning_houses() + walked_houses() + [house for house in drawn if is_fair(house)]
+    return [house for house in every if len(house[0][0]) <= most_numbers and len(house) <= most_floors]
+
+
+@functools.cache
+def unfair_houses():
+    return [house for m, floors in SIZES for house in [made_house(m, floors, 9)] if not is_fair(house)]
+
+
+def state_of(end):
+    """Who rests on each floor of a standing at rest."""
+    assert all(sum(counts) <= 1 for counts in end[:-1])
+    return tuple(counts.index(1) if 1 in counts else None for counts in end[:-1])
+
+
+def resting_in(house, state):
+    """The standing of those who rest in the state, as lists of counts."""
+    return [[int(number == rests) for number in range(len(house[0][0]))] for rests in state]
+
+
+def behind_late(house, state, *people):
+    """The state behind these late comers, (floor, number) each, in some order of meetings."""
+    rows = resting_in(house, state)
+    for floor, number in people:
+        rows[floor][number] += 1
+    return state_of(any_run(house, tuple(map(tuple, rows)) + (0,), random.Random(len(people)))[1])
+
+
+def all_states(house):
+    """All states, those that never come too, rising."""
+    numbers = [None] + list(range(len(house[0][0])))
+    return list(itertools.product(numbers, repeat=len(house)))
+
+
+def ranked(state):
+    return [-1 if number is None else number for number in state]
+
+
+def companies_of(m, many):
+    """All companies of so many people, by their numbers as rising lists, the least list first."""
+    for numbers in itertools.combinations_with_replacement(range(m), many):
+        yield tuple(numbers.count(number) for number in range(m))
+
+
+def numbers_of(company):
+    """The numbers of a company's people, rising."""
+    return [number for number, many in enumerate(company) for _ in range(many)]
+
+
+def state_behind(house, company):
+    """The state of the end of a company of few people."""
+    return behind_late(house, (None,) * len(house), *[(0, number) for number in numbers_of(company)])
+
+
+def least_lists(house, start):
+    """By all states to which late comers on floor 0 lead from this one the least list of their numbers."""
+    told = {start: []}
+    layer = {start: []}
+    while layer:
+        found = {}
+        for state, numbers in layer.items():
+            for number in range(len(house[0][0])):
+                after = behind_late(house, state, (0, number))
+                row = sorted(numbers + [number])
+                if after not in told and row < found.get(after, [6]):
+                    found[after] = row
+        told.update(found)
+        layer = found
+    return told
 
 
 class Plain:
