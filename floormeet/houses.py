@@ -5,6 +5,8 @@ from floormeet.errors import NoHouse
 
 MOST_FLOORS = 4
 MOST_NUMBERS = 6
+# What a floor's two tables are called, in their order.
+WORDS = ("stay", "up")
 # The places left of the middle line of the greatest table; a lesser one has the first of them.
 LEFT_PLACES = (
     (1, 0), (2, 0), (2, 1), (3, 0), (3, 1), (3, 2), (4, 0), (4, 1), (4, 2), (4, 3),

@@ -40,12 +40,55 @@ FUNCTIONS = {
         "end_of": ["house", "standing"],
         "comings": ["house", "standing"],
     },
+    "states": {
+        "states": ["house"],
+        "least_company": ["house", "state"],
+        "counted": ["house", "many", "state"],
+        "round_of": ["house", "company"],
+    },
+    "ahead": {
+        "ahead_of": ["house", "state", "number"],
+        "between": ["house", "one", "other"],
+    },
+    "alike": {
+        "least_unlike": ["house", "other"],
+        "look_alike": ["house", "seen", "floor"],
+        "telling": ["house", "seen", "floor", "a", "b"],
+    },
+    "building": {
+        "over": ["house", "other"],
+        "beside": ["house", "other"],
+        "called": ["house", "callings"],
+        "sorter": ["m", "floors"],
+        "counter": ["m", "floors"],
+        "semigroups": ["m"],
+        "mends": ["house"],
+    },
+    "party": {"party_of": ["house", "log"]},
+    "texts": {"show_house": ["house"], "read_house": ["text"]},
 }
 CLASSES = {
     "errors": (
         "MeetError NoHouse NoFloor NoNumber NoStanding NoCompany NoMeeting NotFair NotSure TooMany NoState "
         "NotLike NoSeen NoName Taken Full Nothing NoLog NoText NoRow"
     ).split(),
+    "party": ["Party"],
+    "desk": ["Desk"],
+}
+METHODS = {
+    ("party", "Party"): {
+        "__init__": ["self", "house"],
+        "come": ["self", "name", "number", "floor"],
+        "meet": ["self", "name", "other"],
+        "settle": ["self"],
+        "back": ["self"],
+        "where": ["self", "name"],
+        "standing": ["self"],
+        "rest_names": ["self"],
+        "log": ["self"],
+        "__len__": ["self"],
+    },
+    ("desk", "Desk"): {"__init__": ["self"], "say": ["self", "row"]},
 }
 
 
@@ -69,6 +112,16 @@ class Interface(unittest.TestCase):
             for name in classes:
                 self.assertIn(name, defined(file, ast.ClassDef))
                 self.assertTrue(inspect.isclass(getattr(module, name)))
+
+    def test_methods(self):
+        for (file, name), methods in METHODS.items():
+            told = getattr(importlib.import_module(f"floormeet.{file}"), name)
+            for method, arguments in methods.items():
+                self.assertIn(method, vars(told))
+                self.assertEqual(list(inspect.signature(vars(told)[method]).parameters), arguments)
+        floor = inspect.signature(vars(importlib.import_module("floormeet.party").Party)["come"]).parameters["floor"]
+        self.assertIs(floor.kind, inspect.Parameter.KEYWORD_ONLY)
+        self.assertEqual(floor.default, 0)
 
 
 class Form(unittest.TestCase):
